@@ -1,0 +1,1 @@
+"""Letterhouse: letters written, read, put into threads and sorted."""

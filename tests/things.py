@@ -1,0 +1,28 @@
+"""What several tests hand in."""
+
+# Of any kind but a text.
+NO_TEXTS = (None, True, False, 0, 7, -1, b"abc", b"", [], ["abc"], ("a", "b"), {"a": 1}, {"a"}, 1.5, object(), str)
+# Of any kind but a list.
+NO_LISTS = (None, True, False, 0, 7, "", "A: b", "AAAA", b"abc", (), ("A: b",), ("AAAA",), (1, 2), {}, {"A: b": 1},
+            {"AAAA"}, range(3), iter([]), bytearray(b"ab"), object(), list)
+# Characters that are no signs: beside the signs' edges, the percent sign, and some beyond ASCII.
+NO_SIGNS = ("\x00", "\t", "\n", "\r", "\x1f", "%", "\x7f", "\x80", "\xa0", "\xe4", "\u0131", "\u2028", "\u3042",
+            "\U0001f600", "\ud800")
+SIGNS = "".join(chr(number) for number in range(32, 127) if number != 37)
+
+
+def refusal(kind, call, *things):
+    """The error with which call refuses things; it must be just of that kind."""
+    try:
+        told = call(*things)
+    except kind as error:
+        if type(error) is not kind:
+            raise AssertionError(f"{type(error)} instead of {kind} of {things!r}") from error
+        return error
+    raise AssertionError(f"{things!r} is not refused but tells {told!r}")
+
+
+def where(kind, call, *things):
+    """The row and the place at which call refuses things."""
+    error = refusal(kind, call, *things)
+    return error.line, error.place
