@@ -41,8 +41,7 @@ def folded(name, value):
     if not is_value(value):
         raise BadValue("no value of a header")
     words = value.split()
-    # A row begins with the blank of its first word, so one sign less is left for the word.
-    if any([len(word) >= ROW_SIGNS for word in words]):
+    if not all([goes_into_rows(word) for word in words]):
         raise TooLong("a word goes into no row")
     rows = [great_name(name) + ":"]
     for word in words:
@@ -50,6 +49,12 @@ def folded(name, value):
             rows.append("")
         rows[-1] += " " + word
     return rows
+
+
+def goes_into_rows(word):
+    """Whether a word of a value is short enough to stand in a row."""
+    # A row begins with the blank of its first word, so one sign less is left for the word.
+    return len(word) < ROW_SIGNS
 
 
 def great_name(name):

@@ -1,7 +1,7 @@
 """Bytes written by sixty-four signs, and read from them."""
 
 from letterhouse.errors import BadBytes, BadSixty
-from letterhouse.signs import ROW_SIGNS, is_bytes, no_text_row
+from letterhouse.signs import ROW_SIGNS, first_wrong, is_bytes
 
 SIXTY_FOUR = "ABCDEFGHIJKLMNOPQRSTUVWXYZabcdefghijklmnopqrstuvwxyz0123456789+/"
 
@@ -26,7 +26,9 @@ def four_of(row):
 
 def bytes_of_sixty(rows):
     """The bytes that rows tell."""
-    refuse_wrong_rows(rows)
+    line, place = first_wrong(rows, may_stand, may_end)
+    if line > 0:
+        raise BadSixty(line, place)
     text = "".join(rows)
     return [byte for at in range(0, len(text), 4) for byte in bytes_of_four(text[at:at + 4])]
 
@@ -43,25 +45,6 @@ def bytes_of_four(signs):
 def bits_of(sign):
     """The number of six bits that a sign stands for; 0 of =."""
     return max(0, SIXTY_FOUR.find(sign))
-
-
-def refuse_wrong_rows(rows):
-    """Raise BadSixty where rows are not written by sixty-four signs."""
-    number = no_text_row(rows)
-    if number > 0:
-        raise BadSixty(number, 1)
-    for at in range(len(rows)):
-        place = wrong_row_place(rows[at], at == len(rows) - 1)
-        if place > 0:
-            raise BadSixty(at + 1, place)
-
-
-def wrong_row_place(row, last):
-    """The first place with which row is no beginning of a good one; 0 of a good one."""
-    for at in range(len(row)):
-        if not may_stand(row[at], row[:at]):
-            return at + 1
-    return 0 if may_end(row, last) else len(row) + 1
 
 
 def may_stand(sign, ahead):

@@ -6,15 +6,11 @@ import unittest
 
 from letterhouse.errors import BadBytes, BadSixty
 from letterhouse.sixty import bytes_of_sixty, sixty_of
-from things import NO_LISTS, NO_SIGNS, NO_TEXTS, where, refusal
+from things import NO_BYTES, NO_LISTS, NO_SIGNS, NO_TEXTS, first_bad_place, refusal, some_bytes, where
 
 SIXTY_FOUR = "ABCDEFGHIJKLMNOPQRSTUVWXYZabcdefghijklmnopqrstuvwxyz0123456789+/"
 # All that is wanted to make four signs whole, so far as that can be done.
 ENDS = ["".join(signs) for many in range(4) for signs in itertools.product("A=", repeat=many)]
-
-
-def some_bytes(many):
-    return [(step * 89 + step * step * 7 + many) % 256 for step in range(many)]
 
 
 def is_good(row):
@@ -29,12 +25,7 @@ def is_good(row):
 
 def place_of(row):
     """The first place with which row, the only one, is no beginning of a good one; 0 of a good one."""
-    if is_good(row):
-        return 0
-    for many in range(1, len(row) + 1):
-        if not any(is_good(row[:many] + end) for end in ENDS):
-            return many
-    return len(row) + 1
+    return first_bad_place(row, is_good, ENDS)
 
 
 class Written(unittest.TestCase):
@@ -82,7 +73,7 @@ class Written(unittest.TestCase):
         for thing in NO_LISTS:
             with self.subTest(thing=thing):
                 refusal(BadBytes, sixty_of, thing)
-        for wrong in (-1, 256, 10 ** 29, -10 ** 29, True, False, None, "a", "65", b"a", 1.0, 65.5, [], [65], (65,)):
+        for wrong in NO_BYTES:
             for row in ([wrong], [1, 2, wrong], [wrong, 1, 2], [0] * 100 + [wrong]):
                 with self.subTest(row=row):
                     refusal(BadBytes, sixty_of, row)

@@ -6,7 +6,7 @@ import unittest
 
 from letterhouse.errors import BadRow
 from letterhouse.rows import unfolded
-from things import NO_LISTS, NO_SIGNS, NO_TEXTS, SIGNS, where
+from things import NO_LISTS, NO_SIGNS, NO_TEXTS, SIGNS, first_bad_place, where
 
 GOOD_HEAD = re.compile(r"[A-Za-z]{1,8}(-[A-Za-z]{1,8}){0,2}:[ -$&-~]*")
 GOOD_REST = re.compile(r" [ -$&-~]*")
@@ -21,12 +21,7 @@ def is_good(row, behind):
 
 def place_of(row, behind):
     """The first place with which row is no beginning of a good one; 0 of a good one."""
-    if is_good(row, behind):
-        return 0
-    for many in range(1, len(row) + 1):
-        if not any(is_good(row[:many] + more, behind) for more in ("", ":", "a:")):
-            return many
-    return len(row) + 1
+    return first_bad_place(row, lambda text: is_good(text, behind), ("", ":", "a:"))
 
 
 class Unfolded(unittest.TestCase):

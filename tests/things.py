@@ -9,6 +9,10 @@ NO_LISTS = (None, True, False, 0, 7, "", "A: b", "AAAA", b"abc", (), ("A: b",), 
 NO_SIGNS = ("\x00", "\t", "\n", "\r", "\x1f", "%", "\x7f", "\x80", "\xa0", "\xe4", "\u0131", "\u2028", "\u3042",
             "\U0001f600", "\ud800")
 SIGNS = "".join(chr(number) for number in range(32, 127) if number != 37)
+# Of any kind but a byte.
+NO_BYTES = (-1, 256, 10 ** 29, -10 ** 29, True, False, None, "a", "65", b"a", 1.0, 65.5, [], [65], (65,))
+# Of any kind but a whole number.
+NO_NUMBERS = (None, True, False, "", "7", b"7", [], [7], (7,), {}, {7}, object(), int)
 
 
 def refusal(kind, call, *things):
@@ -26,3 +30,21 @@ def where(kind, call, *things):
     """The row and the place at which call refuses things."""
     error = refusal(kind, call, *things)
     return error.line, error.place
+
+
+def some_bytes(many):
+    """Bytes of all sizes, others for each many."""
+    return [(step * 89 + step * step * 7 + many) % 256 for step in range(many)]
+
+
+def first_bad_place(text, is_good, ends):
+    """The first place with which text is no beginning of a good one; 0 of a good one.
+
+    It is told from nothing but which texts are good; ends must have what makes each beginning whole.
+    """
+    if is_good(text):
+        return 0
+    for many in range(1, len(text) + 1):
+        if not any(is_good(text[:many] + end) for end in ends):
+            return many
+    return len(text) + 1

@@ -1,0 +1,59 @@
+"""A text read from its first sign on, up to the first one with which it is no beginning of a good one."""
+
+FIGURES = "0123456789"
+
+
+class Astray(Exception):
+    """With the sign at a place, counted from 1, a text is no beginning of a good one."""
+
+    def __init__(self, place):
+        super().__init__(f"place {place}")
+        self.place = place
+
+
+class Reader:
+    """A text, and how many of its signs are read. The end of all counts as a sign, but is none of those asked for."""
+
+    def __init__(self, signs):
+        self.signs = signs
+        self.at = 0
+
+    def sees(self, choice):
+        """Whether the next sign is one of a choice."""
+        return self.at < len(self.signs) and self.signs[self.at] in choice
+
+    def sees_word(self, wanted):
+        """Whether the next signs are those of a word."""
+        return self.signs[self.at:self.at + len(wanted)] == wanted
+
+    def one_of(self, choice):
+        """The next sign, one of a choice."""
+        if not self.sees(choice):
+            raise Astray(self.at + 1)
+        self.at += 1
+        return self.signs[self.at - 1]
+
+    def word(self, wanted):
+        """Read the signs of a word."""
+        for sign in wanted:
+            self.one_of(sign)
+
+    def run(self, choice, most):
+        """The next signs as far as they are of a choice: one at least, and at most so many."""
+        found = self.one_of(choice)
+        while len(found) < most and self.sees(choice):
+            found += self.one_of(choice)
+        return found
+
+    def number(self, low, high):
+        """The next number from low to high, these being texts of as many figures as it has."""
+        found = ""
+        for many in range(1, len(low) + 1):
+            # Texts of figures, all of the same length, stand in the order of their numbers.
+            found += self.one_of([sign for sign in FIGURES if low[:many] <= found + sign <= high[:many]])
+        return int(found)
+
+    def end(self):
+        """Read the end of all."""
+        if self.at < len(self.signs):
+            raise Astray(self.at + 1)
