@@ -45,6 +45,13 @@ class Reader:
             found += self.one_of(choice)
         return found
 
+    def run_ahead(self, choice):
+        """The next signs, as far as they are of a choice, left to be read."""
+        end = self.at
+        while end < len(self.signs) and self.signs[end] in choice:
+            end += 1
+        return self.signs[self.at:end]
+
     def number(self, low, high):
         """The next number from low to high, these being texts of as many figures as it has."""
         found = ""

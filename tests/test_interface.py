@@ -1,4 +1,4 @@
-"""The functions that the document's interface lists stand in the files under which it lists them."""
+"""The functions and classes that the document's interface lists stand in the files under which it lists them."""
 
 import importlib
 import inspect
@@ -9,7 +9,14 @@ LISTED = (("rows", "is_name", 1), ("rows", "is_header_name", 1), ("rows", "is_va
           ("rows", "unfolded", 1), ("sixty", "sixty_of", 1), ("sixty", "bytes_of_sixty", 1),
           ("sixteens", "sixteens_of", 1), ("sixteens", "bytes_of_sixteens", 1), ("words", "value_of", 1),
           ("words", "bytes_of_value", 1), ("times", "time_of", 1), ("times", "time_text", 2),
-          ("people", "people_of", 1), ("people", "people_text", 1))
+          ("people", "people_of", 1), ("people", "people_text", 1), ("headers", "header_of", 2),
+          ("pieces", "piece_rows", 1), ("pieces", "piece_of", 1), ("letters", "letter_text", 1),
+          ("letters", "letter_of", 1), ("letters", "said", 2), ("letters", "id_of", 1), ("letters", "sender_of", 1),
+          ("letters", "minute_of", 1))
+# The file, the class, and each method that stands in it, with how many things are handed to that.
+CLASSES = (*[("headers", name, (("__init__", 2), ("value", 0), ("told", 0)))
+             for name in ("Header", "People", "When", "Ids", "About", "Marks")],
+           ("pieces", "Piece", (("__init__", 3),)))
 
 
 class Interface(unittest.TestCase):
@@ -20,6 +27,17 @@ class Interface(unittest.TestCase):
                 self.assertTrue(inspect.isfunction(function))
                 self.assertEqual(function.__module__, "letterhouse." + file)
                 self.assertEqual(len(inspect.signature(function).parameters), many)
+
+    def test_each_class_is_defined_in_its_file_and_has_its_methods(self):
+        for file, name, methods in CLASSES:
+            listed = getattr(importlib.import_module("letterhouse." + file), name)
+            self.assertTrue(inspect.isclass(listed))
+            self.assertEqual(listed.__module__, "letterhouse." + file)
+            for method, many in methods:
+                with self.subTest(name=name, method=method):
+                    function = vars(listed)[method]
+                    self.assertTrue(inspect.isfunction(function))
+                    self.assertEqual(len(inspect.signature(function).parameters), many + 1)
 
 
 if __name__ == "__main__":
