@@ -2,7 +2,11 @@
 
 
 class HouseError(ValueError):
-    """Any refusal."""
+    """Any refusal, with the name of its class in small letters."""
+
+    def __init__(self, why=""):
+        super().__init__(why)
+        self.kind = self.__class__.__name__.lower()
 
 
 class BadBytes(HouseError):

@@ -2,7 +2,6 @@
 
 from letterhouse.errors import BadBody, BadHeader, BadPiece, BadRow, Wrong
 from letterhouse.headers import Header, header_of
-from letterhouse.reader import FIGURES
 from letterhouse.rows import folded, unfolded, wrong_row_place
 from letterhouse.signs import (ROW_SIGNS, bytes_of_signs, first_wrong, is_bytes, is_sign, is_sign_byte, no_text_row,
                                sign_of_byte)
@@ -112,21 +111,12 @@ def written_pieces(pieces):
 def free_border(rows):
     """The first border that no row begins with."""
     head = BORDER_HEAD + BORDER_LETTER
-    taken = {}
-    for row in rows:
-        if row.startswith(head):
-            figures = row[len(head):]
-            for many in range(1, many_figures(figures) + 1):
-                taken[figures[:many]] = True
+    # A row takes all borders that it begins with, whatever stands behind them.
+    taken = {row[:many]: True for row in rows if row.startswith(head) for many in range(len(row) + 1)}
     number = 0
-    while str(number) in taken:
+    while f"{head}{number}" in taken:
         number += 1
     return f"{BORDER_LETTER}{number}"
-
-
-def many_figures(text):
-    """How many figures stand at the head of text."""
-    return len(text) - len(text.lstrip(FIGURES))
 
 
 def piece_of(rows):
@@ -160,7 +150,7 @@ def header_bounds(rows, start, end):
     bounds = []
     name = ""
     for at in range(start, end):
-        goes_on = at > start and rows[at].startswith(" ")
+        goes_on = rows[at].startswith(" ")
         if name == BODY and not goes_on:
             return bounds + [at]
         place = wrong_row_place(rows[at], at > start)

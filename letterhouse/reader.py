@@ -1,4 +1,4 @@
-"""A text read from its first sign on, up to the first one with which it is no beginning of a good one."""
+"""A text read sign by sign, or word by word, up to the first one with which it is no beginning of a good one."""
 
 FIGURES = "0123456789"
 
@@ -64,3 +64,54 @@ class Reader:
         """Read the end of all."""
         if self.at < len(self.signs):
             raise Astray(self.at + 1)
+
+
+class Words:
+    """A row of words with one blank between, how many of them are read, and the place where the next one begins."""
+
+    def __init__(self, row):
+        self.words = row.split(" ")
+        self.at = 0
+        self.place = 1
+
+    def sees(self, *choice):
+        """Whether the next word is one of a choice."""
+        return self.at < len(self.words) and self.words[self.at] in choice
+
+    def one_of(self, *choice):
+        """The next word, one of a choice."""
+        if not self.sees(*choice):
+            raise Astray(self.place)
+        word = self.words[self.at]
+        self.go_on()
+        return word
+
+    def whole(self, read):
+        """What read reads of the next word, sign by sign up to its end."""
+        self.refuse_end()
+        reader = Reader(self.words[self.at])
+        try:
+            found = read(reader)
+            reader.end()
+        except Astray:
+            raise Astray(self.place) from None
+        self.go_on()
+        return found
+
+    def go_on(self):
+        """Step behind the next word."""
+        self.place += len(self.words[self.at])
+        self.at += 1
+        # The end of the row stands one place behind its last sign, as a blank does that parts two words.
+        if self.at < len(self.words):
+            self.place += 1
+
+    def refuse_end(self):
+        """Raise Astray where no word is left."""
+        if self.at == len(self.words):
+            raise Astray(self.place)
+
+    def end(self):
+        """Read the end of the row."""
+        if self.at < len(self.words):
+            raise Astray(self.place)

@@ -40,6 +40,13 @@ class Errors(unittest.TestCase):
         with self.assertRaises(TypeError):
             errors.Wrong()
 
+    def test_each_tells_its_kind(self):
+        self.assertEqual(errors.HouseError().kind, "houseerror")
+        for name in PLAIN:
+            self.assertEqual(getattr(errors, name)("why").kind, name.lower())
+        for name in PLACED + ("Wrong",):
+            self.assertEqual(getattr(errors, name)(1, 1).kind, name.lower())
+
     def test_plain_ones_have_no_place(self):
         for name in PLAIN:
             with self.subTest(name):

@@ -12,11 +12,16 @@ LISTED = (("rows", "is_name", 1), ("rows", "is_header_name", 1), ("rows", "is_va
           ("people", "people_of", 1), ("people", "people_text", 1), ("headers", "header_of", 2),
           ("pieces", "piece_rows", 1), ("pieces", "piece_of", 1), ("letters", "letter_text", 1),
           ("letters", "letter_of", 1), ("letters", "said", 2), ("letters", "id_of", 1), ("letters", "sender_of", 1),
-          ("letters", "minute_of", 1))
+          ("letters", "minute_of", 1), ("threads", "elders_of", 1), ("threads", "threads_of", 1),
+          ("threads", "thread_rows", 1), ("rules", "rules_of", 1), ("rules", "rules_text", 1), ("rules", "sorted_by", 2),
+          ("rules", "fits", 4), ("shell", "answer", 2), ("shell", "play", 2))
 # The file, the class, and each method that stands in it, with how many things are handed to that.
 CLASSES = (*[("headers", name, (("__init__", 2), ("value", 0), ("told", 0)))
              for name in ("Header", "People", "When", "Ids", "About", "Marks")],
-           ("pieces", "Piece", (("__init__", 3),)))
+           ("pieces", "Piece", (("__init__", 3),)),
+           ("house", "House", (("__init__", 1), ("come", 1), ("move", 3), ("drop", 2), ("mark", 2), ("unmark", 2),
+                               ("folders", 1), ("marks", 1), ("folder", 1), ("names", 0), ("text", 1), ("threads", 1),
+                               ("renew", 1))))
 
 
 class Interface(unittest.TestCase):

@@ -102,6 +102,7 @@ class Read(unittest.TestCase):
                     self.assertEqual(where(BadRow, letter_of, sign), (1, 1))
                     self.assertEqual(where(BadRow, letter_of, text_of(ID + sign, *HEAD[1:], *BODY)), (1, 10))
                     self.assertEqual(where(BadRow, letter_of, text_of(*HEAD, *BODY, f"ab{sign}")), (7, 3))
+                    self.assertEqual(where(BadRow, letter_of, text_of(*HEAD, *BODY, sign)), (7, 1))
 
     def test_line_ends_of_another_kind_are_no_signs(self):
         for sign in ("\r", "\x0b", "\x0c", "\x1c", "\x85", "\u2028"):

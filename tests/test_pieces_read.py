@@ -260,6 +260,10 @@ class Refused(unittest.TestCase):
             self.body(["A: b", "Body:", f" {way}", "", "--b", *X, "--b--"], 2)
             self.body(["Body: pieces b", "", "--b", f"Body: {way}", "", "x", "--b--"], 4)
 
+    def test_borders_that_are_none_though_they_stand_in_the_rows(self):
+        for border in ("", "B", "-", "b-", "--", "--b", "b_", "bA", "b.", "b" * 13, "b c", "b=", "0" * 13):
+            self.body([f"Body: pieces {border}", "", f"--{border}", *X, f"--{border}--"], 1)
+
     def test_a_way_that_is_none_is_told_ahead_of_rows_behind_it(self):
         self.body(["Body: what", "x"], 1)
         self.body(["Body: what"], 1)
