@@ -92,6 +92,23 @@ def read_address(reader):
     return local + "@" + ".".join(words)
 
 
+def is_address(text):
+    """Whether a text is an address."""
+    local, _, house = text.partition("@")
+    words = house.split(".", HOUSE_WORDS)
+    if len(words) > HOUSE_WORDS or not is_run(local, LOCAL_SIGNS, LOCAL_MOST):
+        return False
+    for word in words:
+        if not is_run(word, HOUSE_SIGNS, HOUSE_MOST):
+            return False
+    return True
+
+
+def is_run(text, signs, most):
+    """Whether text is 1 to most of some signs."""
+    return 1 <= len(text) <= most and text.strip(signs) == ""
+
+
 def read_name(reader):
     """A called name; an empty text where there is none."""
     if reader.sees("<"):

@@ -11,7 +11,7 @@ HEADER_LETTERS = 8
 
 def is_small_word(text, most):
     """Whether text is 1 to most small letters."""
-    return 1 <= len(text) <= most and all([letter in SMALL for letter in text])
+    return 1 <= len(text) <= most and text.strip(SMALL) == ""
 
 
 def is_name(thing):

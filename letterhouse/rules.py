@@ -2,9 +2,9 @@
 
 from letterhouse.errors import BadRule
 from letterhouse.letters import said
-from letterhouse.people import read_address
-from letterhouse.reader import Astray, Words
-from letterhouse.rows import NAME_LETTERS, SMALL, is_letter
+from letterhouse.people import is_address
+from letterhouse.reader import Astray, Reader
+from letterhouse.rows import is_letter, is_name
 from letterhouse.signs import is_sign_byte, sign_of_byte
 from letterhouse.times import DAY_MINUTES, day_name, read_ahead, read_clock, read_day
 
@@ -12,6 +12,16 @@ FIRST_FOLDER = "in"
 MOST_NOTS = 4
 MOST_BRACKETS = 4
 NAMED_DEEDS = ("move", "copy", "mark", "unmark")
+PLAIN_DEEDS = ("refuse", "stop")
+ALWAYS = ("always", None)
+
+
+class WrongWord(Exception):
+    """With one of its words, counted from nought, a row is no beginning of a rule."""
+
+    def __init__(self, at):
+        super().__init__(f"word {at}")
+        self.at = at
 
 
 def rules_of(text):
@@ -24,111 +34,124 @@ def rules_of(text):
             continue
         try:
             rules.append(read_rule(row))
-        except Astray as stop:
-            raise BadRule(at + 1, stop.place) from None
+        except WrongWord as stop:
+            raise BadRule(at + 1, word_place(row, stop.at)) from None
     return rules
+
+
+def word_place(row, at):
+    """The place where a word of a row begins; the row's end where no word is left."""
+    ahead = sum([len(word) + 1 for word in row.split(" ", at)[:at]])
+    return min(ahead, len(row)) + 1
 
 
 def read_rule(row):
     """The rule that a row tells."""
-    words = Words(row)
-    words.one_of("if")
-    facts = read_facts(words, 0)
-    words.one_of("then")
-    deeds = read_deeds(words)
-    words.end()
+    words = row.split(" ")
+    # An empty word is none of those that are looked for, so it stands for the end, and none is looked for behind it.
+    words.append("")
+    if words[0] != "if":
+        raise WrongWord(0)
+    facts, at = read_facts(words, 1, 0)
+    if words[at] != "then":
+        raise WrongWord(at)
+    deeds, at = read_deeds(words, at + 1)
+    if at < len(words) - 1:
+        raise WrongWord(at)
     return row, facts, deeds
 
 
-def read_facts(words, brackets):
-    """Terms with or between, that stand in so many brackets."""
-    terms = [read_term(words, brackets)]
-    while words.sees("or"):
-        words.one_of("or")
-        terms.append(read_term(words, brackets))
-    return "or", tuple(terms)
+def read_facts(words, at, brackets):
+    """Terms with or between, that stand in so many brackets, from a word on; and which word stands behind them."""
+    terms = []
+    facts = []
+    while True:
+        fact, at = read_fact(words, at, brackets)
+        facts.append(fact)
+        if words[at] != "and":
+            terms.append(("and", tuple(facts)))
+            if words[at] != "or":
+                return ("or", tuple(terms)), at
+            facts = []
+        at += 1
 
 
-def read_term(words, brackets):
-    """Facts with and between, that stand in so many brackets."""
-    facts = [read_fact(words, brackets)]
-    while words.sees("and"):
-        words.one_of("and")
-        facts.append(read_fact(words, brackets))
-    return "and", tuple(facts)
-
-
-def read_fact(words, brackets):
-    """A fact that stands in so many brackets."""
+def read_fact(words, at, brackets):
+    """A fact that stands in so many brackets, from a word on; and which word stands behind it."""
     nots = 0
-    while nots < MOST_NOTS and words.sees("not"):
-        words.one_of("not")
+    while words[at] == "not" and nots < MOST_NOTS:
         nots += 1
-    fact = read_plain_fact(words, brackets)
-    for _ in range(nots):
+        at += 1
+    fact, at = read_plain_fact(words, at, brackets)
+    while nots > 0:
         fact = ("not", fact)
-    return fact
+        nots -= 1
+    return fact, at
 
 
-def read_plain_fact(words, brackets):
-    """A fact without a not ahead of it."""
-    if brackets < MOST_BRACKETS and words.sees("("):
-        words.one_of("(")
-        facts = read_facts(words, brackets + 1)
-        words.one_of(")")
-        return facts
-    word = words.one_of("always", "from", "to", "about", "marked", "before")
+def read_plain_fact(words, at, brackets):
+    """A fact without a not ahead of it, from a word on; and which word stands behind it."""
+    word = words[at]
     match word:
         case "always":
-            return word, None
+            return ALWAYS, at + 1
+        case "about" | "marked":
+            if not is_name(words[at + 1]):
+                raise WrongWord(at + 1)
         case "from" | "to":
-            return word, words.whole(read_address)
+            if not is_address(words[at + 1]):
+                raise WrongWord(at + 1)
         case "before":
-            return word, read_minute(words)
+            return (word, read_minute(words, at + 1)), at + 5
+        case "(" if brackets < MOST_BRACKETS:
+            facts, at = read_facts(words, at + 1, brackets + 1)
+            if words[at] != ")":
+                raise WrongWord(at)
+            return facts, at + 1
         case _:
-            return word, words.whole(read_name)
+            raise WrongWord(at)
+    return (word, words[at + 1]), at + 2
 
 
-def read_name(reader):
-    """A name."""
-    return reader.run(SMALL, NAME_LETTERS)
+def read_minute(words, at):
+    """The minute that the four words of a time tell, from a word on."""
+    day = read_whole(read_day, words, at)
+    if words[at + 1] != day_name(day):
+        raise WrongWord(at + 1)
+    clock = read_whole(read_clock, words, at + 2)
+    return day * DAY_MINUTES + clock - read_whole(read_ahead, words, at + 3)
 
 
-def read_minute(words):
-    """The minute that the four words of a time tell."""
-    day = words.whole(read_day)
-    words.one_of(day_name(day))
-    clock = words.whole(read_clock)
-    return day * DAY_MINUTES + clock - words.whole(read_ahead)
+def read_whole(read, words, at):
+    """What read reads of a word, sign by sign up to its end."""
+    reader = Reader(words[at])
+    try:
+        found = read(reader)
+        reader.end()
+    except Astray:
+        raise WrongWord(at) from None
+    return found
 
 
-def read_deeds(words):
-    """Deeds with a comma and a blank between."""
-    deed, goes_on = read_deed(words)
-    deeds = [deed]
+def read_deeds(words, at):
+    """Deeds with a comma and a blank between, each with its name or None, from a word on; and which stands behind."""
+    deeds = []
+    goes_on = True
     while goes_on:
-        deed, goes_on = read_deed(words)
-        deeds.append(deed)
-    return tuple(deeds)
-
-
-def read_deed(words):
-    """A deed and its name, None where it has none; and whether a comma stands behind it."""
-    if words.sees(*NAMED_DEEDS):
-        word = words.one_of(*NAMED_DEEDS)
-        name, goes_on = words.whole(read_name_and_comma)
-        return (word, name), goes_on
-    word = words.one_of("refuse", "refuse,", "stop", "stop,")
-    return (word.removesuffix(","), None), word.endswith(",")
-
-
-def read_name_and_comma(reader):
-    """A name, and whether a comma stands behind it."""
-    name = read_name(reader)
-    goes_on = reader.sees(",")
-    if goes_on:
-        reader.word(",")
-    return name, goes_on
+        deed = words[at]
+        if deed in NAMED_DEEDS:
+            at += 1
+            name = words[at].removesuffix(",")
+            if not is_name(name):
+                raise WrongWord(at)
+        else:
+            deed, name = deed.removesuffix(","), None
+            if deed not in PLAIN_DEEDS:
+                raise WrongWord(at)
+        deeds.append((deed, name))
+        goes_on = words[at].endswith(",")
+        at += 1
+    return tuple(deeds), at
 
 
 def rules_text(rules):

@@ -106,7 +106,9 @@ def days_ahead(year, month):
     """How many days of the calendar stand ahead of a month; a thirteenth one is the first of the next year."""
     years = year - 1
     leap_days = years // 4 - years // 100 + years // 400
-    return years * 365 + leap_days + sum([days_in(year, earlier) for earlier in range(1, month)])
+    if month > 2 and has_leap_day(year):
+        leap_days += 1
+    return years * 365 + leap_days + sum(MONTH_DAYS[:month - 1])
 
 
 def days_in(year, month):

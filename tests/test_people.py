@@ -5,7 +5,7 @@ import re
 import unittest
 
 from letterhouse.errors import BadPeople
-from letterhouse.people import people_of, people_text
+from letterhouse.people import is_address, people_of, people_text
 from letterhouse.rows import is_value
 from things import NO_SIGNS, NO_TEXTS, SIGNS, where
 
@@ -57,6 +57,16 @@ class Read(unittest.TestCase):
             self.told(f"<{sign}@b>", one(f"{sign}@b"))
         for sign in SMALL + FIGURES:
             self.told(f"<a@{sign}.b{sign}>", one(f"a@{sign}.b{sign}"))
+
+    def test_addresses_alone(self):
+        for address in ("a@b", "-_9@0.z.9", "a" * 20 + "@" + ".".join(["b" * 10] * 3)):
+            self.assertIs(is_address(address), True, address)
+            for at in range(len(address) + 1):
+                for sign in SIGNS + "".join(NO_SIGNS):
+                    for other in (address[:at] + sign + address[at:], address[:at] + sign + address[at + 1:]):
+                        self.assertIs(is_address(other), re.fullmatch(ADDRESS, other) is not None, other)
+        for other in ("", "@", "a", "a@", "@a", "a@b.", "a@.b", "a@b..c", "a@b.c.d.e", "a@b@c", "a.b@c", "<a@b>", "a" * 21 + "@b"):
+            self.assertIs(is_address(other), False, other)
 
     def test_called_names_of_plain_words_at_their_sizes(self):
         self.told("A" * 12 + " <a@b>", one("a@b", "A" * 12))

@@ -2,6 +2,7 @@
 
 import itertools
 import re
+import sys
 import unittest
 
 from letterhouse.errors import BadRule, BadTime
@@ -14,6 +15,12 @@ TIME = "2031-04-05 Sat 17:30 +0130"
 WORDS = {"i": "if", "n": "not", "(": "(", ")": ")", "a": "always", "m": "marked", "f": "from", "@": "a@b", "&": "and",
          "|": "or", "t": "then", "M": "move", "S": "stop", ",": "x,", ";": "stop,", "-": ""}
 NAMES = "inamf&|tMS"
+# One with facts and deeds of all sorts, and a text of as many such rows as are often read again and again.
+LONG_ROW = ("if not not from abcdefgh1@abc.a and about abcdefghijk or ( marked abcdefghij and to abcdefgh1@abc.a or before "
+            "2016-03-07 Mon 12:30 +0100 ) and not not not not ( always or not ( to abcdefgh1@abc.a ) ) then copy abcdefghijkl, "
+            "mark abcdefghijk, unmark abcdef, copy in")
+MANY = 32
+MANY_ROWS = "\n".join([LONG_ROW] * MANY)
 
 
 def facts(brackets):
@@ -46,7 +53,8 @@ class Good(unittest.TestCase):
                 self.assertEqual(rules_text(rules), row)
 
     def test_each_fact(self):
-        for fact in ("always", "from a@b", "to a-1_@b.c2.d", "about day", "marked new", f"before {TIME}"):
+        longest = "a" * 20 + "@" + ".".join(["b" * 10] * 3)
+        for fact in ("always", "from a@b", "to a-1_@b.c2.d", "about day", "marked new", f"before {TIME}", f"from {longest}"):
             self.good(f"if {fact} then stop")
 
     def test_each_deed(self):
@@ -236,6 +244,47 @@ class Refused(unittest.TestCase):
             else:
                 self.assertEqual(where(BadRule, rules_of, row), (1, len(row) + 1), row)
             self.goes_on(some + letter, many - 1)
+
+
+class Many(unittest.TestCase):
+    def test_many_long_rows_are_read(self):
+        self.assertEqual(len(LONG_ROW), 264)
+        rules = rules_of(MANY_ROWS)
+        self.assertEqual(len(rules), MANY)
+        self.assertEqual(rules_text(rules), MANY_ROWS)
+
+    def test_a_wrong_word_in_each_of_many_long_rows(self):
+        words = LONG_ROW.split(" ")
+        for at in (0, words.index("from"), words.index("then"), words.index("copy")):
+            wrong = " ".join(words[:at] + ["never"] + words[at + 1:])
+            place = len("".join([word + " " for word in words[:at]])) + 1
+            for number in range(MANY):
+                rows = [LONG_ROW] * number + [wrong] + [LONG_ROW] * (MANY - number - 1)
+                self.assertEqual(where(BadRule, rules_of, "\n".join(rows)), (number + 1, place))
+
+    def test_each_wrong_word_of_a_long_row(self):
+        words = LONG_ROW.split(" ")
+        for at in range(len(words) + 1):
+            place = len("".join([word + " " for word in words[:at]])) + 1
+            for wrong in ("NEVER", "never@", ""):
+                row = " ".join(words[:at] + [wrong] + words[at + 1:])
+                self.assertEqual(where(BadRule, rules_of, row), (1, place), row)
+
+    def test_reading_takes_few_calls(self):
+        # Calls are counted, because how long they take hangs on the machine; sign by sign it would be some 1200 a row.
+        self.assertLess(calls_of(rules_of, MANY_ROWS), 400 * MANY)
+
+
+def calls_of(call, thing):
+    """How many functions and methods are called while one of them is called with a thing."""
+    counted = []
+    before = sys.getprofile()
+    sys.setprofile(lambda frame, event, told: counted.append(event) if event in ("call", "c_call") else None)
+    try:
+        call(thing)
+    finally:
+        sys.setprofile(before)
+    return len(counted)
 
 
 class Kept(unittest.TestCase):
